@@ -1,0 +1,33 @@
+package weir_test
+
+import (
+	"fmt"
+
+	"weir/api"
+	"weir/weir"
+)
+
+func ExamplePack() {
+	p := api.Program{
+		Entries: []int{0},
+		Rules:   []api.Rule{{Emit: 1}},
+		Code: []api.Ins{
+			{Op: api.Next},
+			{Op: api.In, A: 'a', B: 'b', To: 3},
+			{Op: api.Stop},
+			{Op: api.Mark},
+			{Op: api.Stop},
+		},
+	}
+	image, e := weir.Pack(p)
+	if e != api.OK {
+		fmt.Println("not right:", e)
+		return
+	}
+	fmt.Printf("%x\n", image)
+	back, e := weir.Unpack(image)
+	fmt.Println(back.Code[1], e)
+	// Output:
+	// 575201010500000001000002000000000361620300050000000001000000000500000000
+	// {3 97 98 3} 0
+}

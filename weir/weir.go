@@ -1,0 +1,46 @@
+// Package weir: rules that cut bytes into tokens, and small programs that do it: see DOC.md.
+package weir
+
+import (
+	"weir/api"
+	"weir/images"
+	"weir/program"
+)
+
+// Scanner runs a program over bytes as they come.
+type Scanner struct{}
+
+// Pack makes a program's image (P3).
+func Pack(p api.Program) (string, api.Errno) {
+	if !program.Right(p) {
+		return "", api.ErrProgram
+	}
+	return images.Write(p), api.OK
+}
+
+// Unpack gives back an image's program (P4).
+func Unpack(image string) (api.Program, api.Errno) {
+	p, formed := images.Read(image)
+	if !formed || !program.Right(p) {
+		return api.Program{}, api.ErrImage
+	}
+	return p, api.OK
+}
+
+// Start makes a scanner of an image (P5).
+func Start(image string, most int, depth int) (*Scanner, api.Errno) { return nil, api.OK }
+
+// Feed takes bytes, and tells the tokens that are sure (P6).
+func (s *Scanner) Feed(chunk string) ([]api.Token, api.Errno) { return nil, api.OK }
+
+// Finish ends the input, and tells the tokens that are left (P7).
+func (s *Scanner) Finish() ([]api.Token, api.Errno) { return nil, api.OK }
+
+// State tells where the scanner is (P8).
+func (s *Scanner) State() api.State { return api.State{} }
+
+// Check tells whether a text is rules (P10).
+func Check(text string) (api.Errno, int) { return api.OK, 0 }
+
+// Compile makes an image out of rules (P11).
+func Compile(text string) (string, api.Errno) { return "", api.OK }
