@@ -31,3 +31,28 @@ func ExamplePack() {
 	// 575201010500000001000002000000000361620300050000000001000000000500000000
 	// {3 97 98 3} 0
 }
+
+func ExampleStart() {
+	p := api.Program{
+		Entries: []int{0},
+		Rules:   []api.Rule{{Emit: 1}},
+		Code: []api.Ins{
+			{Op: api.Next},
+			{Op: api.Mark},
+			{Op: api.In, A: 'a', B: 'z', To: 0},
+			{Op: api.Stop},
+		},
+	}
+	image, _ := weir.Pack(p)
+	s, _ := weir.Start(image, api.MaxLook, 0)
+	for _, chunk := range []string{"one;t", "wo"} {
+		tokens, e := s.Feed(chunk)
+		fmt.Println(tokens, e, s.State().Held)
+	}
+	tokens, e := s.Finish()
+	fmt.Println(tokens, e, s.State().Held)
+	// Output:
+	// [{0 0 4 1 1}] 0 1
+	// [] 0 3
+	// [{0 4 3 1 5}] 0 0
+}

@@ -5,10 +5,13 @@ import (
 	"weir/api"
 	"weir/images"
 	"weir/program"
+	"weir/scan"
 )
 
 // Scanner runs a program over bytes as they come.
-type Scanner struct{}
+type Scanner struct {
+	run scan.Run
+}
 
 // Pack makes a program's image (P3).
 func Pack(p api.Program) (string, api.Errno) {
@@ -28,16 +31,31 @@ func Unpack(image string) (api.Program, api.Errno) {
 }
 
 // Start makes a scanner of an image (P5).
-func Start(image string, most int, depth int) (*Scanner, api.Errno) { return nil, api.OK }
+func Start(image string, most int, depth int) (*Scanner, api.Errno) {
+	p, e := Unpack(image)
+	if e != api.OK {
+		return nil, e
+	}
+	if most < 1 || most > api.MaxLook || depth < 0 || depth > api.MaxDepth {
+		return nil, api.ErrArg
+	}
+	return &Scanner{run: scan.Begin(p, most, depth)}, api.OK
+}
 
 // Feed takes bytes, and tells the tokens that are sure (P6).
-func (s *Scanner) Feed(chunk string) ([]api.Token, api.Errno) { return nil, api.OK }
+func (s *Scanner) Feed(chunk string) ([]api.Token, api.Errno) {
+	return s.run.Feed(chunk)
+}
 
 // Finish ends the input, and tells the tokens that are left (P7).
-func (s *Scanner) Finish() ([]api.Token, api.Errno) { return nil, api.OK }
+func (s *Scanner) Finish() ([]api.Token, api.Errno) {
+	return s.run.Finish()
+}
 
 // State tells where the scanner is (P8).
-func (s *Scanner) State() api.State { return api.State{} }
+func (s *Scanner) State() api.State {
+	return s.run.State()
+}
 
 // Check tells whether a text is rules (P10).
 func Check(text string) (api.Errno, int) { return api.OK, 0 }
