@@ -56,3 +56,17 @@ func ExampleStart() {
 	// [] 0 3
 	// [{0 4 3 1 5}] 0 0
 }
+
+func ExampleCheck() {
+	fmt.Println(weir.Check("a [a-z]+ e\na \\s s"))
+	fmt.Println(weir.Check("a (b e"))
+	fmt.Println(weir.Check("a b e\na [z-a] e"))
+	fmt.Println(weir.Check("a b e\na b* e"))
+	fmt.Println(weir.Check("b .*a..... e"))
+	// Output:
+	// 0 0
+	// 10 4
+	// 11 1
+	// 12 1
+	// 13 1
+}

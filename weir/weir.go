@@ -5,7 +5,9 @@ import (
 	"weir/api"
 	"weir/images"
 	"weir/program"
+	"weir/rules"
 	"weir/scan"
+	"weir/sets"
 )
 
 // Scanner runs a program over bytes as they come.
@@ -58,7 +60,19 @@ func (s *Scanner) State() api.State {
 }
 
 // Check tells whether a text is rules (P10).
-func Check(text string) (api.Errno, int) { return api.OK, 0 }
+func Check(text string) (api.Errno, int) {
+	read, e, number := rules.Read(text)
+	if e != api.OK {
+		return e, number
+	}
+	for mode := 0; mode < read.Modes; mode++ {
+		_, few := sets.Find(read, mode)
+		if !few {
+			return api.ErrStates, mode
+		}
+	}
+	return api.OK, 0
+}
 
 // Compile makes an image out of rules (P11).
 func Compile(text string) (string, api.Errno) { return "", api.OK }
