@@ -36,3 +36,19 @@ func Same(a []int, b []int) bool {
 	}
 	return true
 }
+
+// Meet tells whether a number is in a and in b.
+func Meet(a []int, b []int) bool {
+	i, j := 0, 0
+	for i < len(a) && j < len(b) {
+		switch {
+		case a[i] < b[j]:
+			i++
+		case a[i] > b[j]:
+			j++
+		default:
+			return true
+		}
+	}
+	return false
+}

@@ -25,6 +25,9 @@ func TestEveryPair(t *testing.T) {
 			if got := Same(subset(a), subset(b)); got != (a == b) {
 				t.Errorf("Same(%v, %v) = %v", subset(a), subset(b), got)
 			}
+			if got := Meet(subset(a), subset(b)); got != (a&b != 0) {
+				t.Errorf("Meet(%v, %v) = %v", subset(a), subset(b), got)
+			}
 		}
 	}
 }

@@ -163,10 +163,13 @@ func model(patterns []*tree) []string {
 	return sets
 }
 
-func found(sets [][]int) []string {
+// found lists the sets that are counted.
+func found(sets []Set) []string {
 	texts := []string{}
-	for _, set := range sets {
-		texts = append(texts, fmt.Sprint(set))
+	for number, set := range sets {
+		if number != Lost && number != Begin {
+			texts = append(texts, fmt.Sprint(set.Places))
+		}
 	}
 	sort.Strings(texts)
 	return texts
@@ -203,14 +206,54 @@ func TestAnyPatterns(t *testing.T) {
 			if few != (len(want) <= api.MaxSets) || few && fmt.Sprint(found(sets)) != fmt.Sprint(want) || !few && sets != nil {
 				t.Fatalf("Find(%q, %d) = %v, %v, want %v", source, mode, found(sets), few, want)
 			}
-			most = max(most, len(sets))
+			most = max(most, len(sets)-2)
 			if !few {
 				tooMany++
+				continue
+			}
+			for range 5 {
+				walk(t, chance, sets, patterns[mode], source)
 			}
 		}
 	}
 	if most < 20 || tooMany < 10 {
 		t.Errorf("the patterns are too tame: at most %d sets, %d times too many", most, tooMany)
+	}
+}
+
+// walk goes from byte to byte, by chance, and asks at each whether the set is the word's.
+func walk(t *testing.T, chance *rand.Rand, sets []Set, patterns []*tree, source string) {
+	t.Helper()
+	at, word := Begin, ""
+	for range 8 {
+		b := alphabet[chance.Intn(len(alphabet))]
+		at = sets[at].Longer[b]
+		word += string([]byte{b})
+		want := setOf(patterns, word)
+		if got := fmt.Sprint(sets[at].Places); got != want || at == Begin || (at == Lost) != (want == "[]") {
+			t.Fatalf("%q: the set of %q is number %d, %s, want %s", source, word, at, got, want)
+		}
+	}
+}
+
+// TestLost: from the empty set all bytes lead to it; nothing leads to the beginning.
+func TestLost(t *testing.T) {
+	for _, source := range []string{"a a e", "b a e", "a [^\x00-\xff] e", "a a[^\x00-\xff] e"} {
+		text, e, _ := rules.Read(source)
+		if e != api.OK {
+			t.Fatalf("Read(%q): %d", source, e)
+		}
+		sets, few := Find(text, 0)
+		if !few || len(sets[Lost].Places) != 0 || len(sets[Begin].Places) != 0 || sets[Lost].Longer != [256]int{} {
+			t.Errorf("%q: %v, %v", source, sets, few)
+		}
+		for number, set := range sets {
+			for b, longer := range set.Longer {
+				if longer == Begin {
+					t.Errorf("%q: byte %d leads from set %d to the beginning", source, b, number)
+				}
+			}
+		}
 	}
 }
 
@@ -240,8 +283,8 @@ func TestCounts(t *testing.T) {
 			t.Fatalf("Read(%q): %d", c.text, e)
 		}
 		sets, few := Find(text, c.mode)
-		if few != (c.want >= 0) || few && len(sets) != c.want || !few && sets != nil {
-			t.Errorf("Find(%q, %d): %d sets, %v, want %d", c.text, c.mode, len(sets), few, c.want)
+		if few != (c.want >= 0) || few && len(sets)-2 != c.want || !few && sets != nil {
+			t.Errorf("Find(%q, %d): %d sets, %v, want %d", c.text, c.mode, len(sets)-2, few, c.want)
 		}
 	}
 }

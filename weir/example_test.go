@@ -70,3 +70,23 @@ func ExampleCheck() {
 	// 12 1
 	// 13 1
 }
+
+func ExampleCompile() {
+	image, e := weir.Compile("a if e\na [a-z]+ e\na (\\s|\\n)+ s\na \" e+b\nb [^\"]+ e\nb \" e<")
+	if e != api.OK {
+		fmt.Println("no rules:", e)
+		return
+	}
+	s, _ := weir.Start(image, api.MaxLook, 1)
+	for _, chunk := range []string{"if i", "ff \"i", "f\""} {
+		tokens, e := s.Feed(chunk)
+		fmt.Println(tokens, e, s.State().Held)
+	}
+	tokens, e := s.Finish()
+	fmt.Println(tokens, e, s.State().Held)
+	// Output:
+	// [{0 0 2 1 1}] 0 1
+	// [{1 3 3 1 4} {3 7 1 1 8}] 0 1
+	// [{4 8 2 1 9} {5 10 1 1 11}] 0 0
+	// [] 0 0
+}

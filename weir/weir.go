@@ -3,7 +3,9 @@ package weir
 
 import (
 	"weir/api"
+	"weir/code"
 	"weir/images"
+	"weir/kinds"
 	"weir/program"
 	"weir/rules"
 	"weir/scan"
@@ -61,18 +63,42 @@ func (s *Scanner) State() api.State {
 
 // Check tells whether a text is rules (P10).
 func Check(text string) (api.Errno, int) {
-	read, e, number := rules.Read(text)
-	if e != api.OK {
-		return e, number
-	}
-	for mode := 0; mode < read.Modes; mode++ {
-		_, few := sets.Find(read, mode)
-		if !few {
-			return api.ErrStates, mode
-		}
-	}
-	return api.OK, 0
+	_, _, e, number := read(text)
+	return e, number
 }
 
-// Compile makes an image out of rules (P11).
-func Compile(text string) (string, api.Errno) { return "", api.OK }
+// Compile makes an image out of rules (P11 to P13).
+func Compile(text string) (string, api.Errno) {
+	told, found, e, _ := read(text)
+	if e != api.OK {
+		return "", e
+	}
+	actions := []api.Rule{}
+	for _, line := range told.Lines {
+		actions = append(actions, line.Rule)
+	}
+	modes := [][]kinds.Kind{}
+	for _, mode := range found {
+		modes = append(modes, kinds.Find(told.Lines, mode))
+	}
+	entries, ins := code.Lay(modes)
+	return images.Write(api.Program{Entries: entries, Rules: actions, Code: ins}), api.OK
+}
+
+// read gives what a text tells and what sets.Find gives of each of its modes, or the error
+// that it has and Check's number.
+func read(text string) (rules.Text, [][]sets.Set, api.Errno, int) {
+	told, e, number := rules.Read(text)
+	if e != api.OK {
+		return rules.Text{}, nil, e, number
+	}
+	found := [][]sets.Set{}
+	for mode := 0; mode < told.Modes; mode++ {
+		all, few := sets.Find(told, mode)
+		if !few {
+			return rules.Text{}, nil, api.ErrStates, mode
+		}
+		found = append(found, all)
+	}
+	return told, found, api.OK, 0
+}
